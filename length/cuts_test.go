@@ -6,6 +6,7 @@ import (
 
 	"bolter/api"
 	"bolter/length"
+	"bolter/samples"
 )
 
 // P8.2
@@ -60,7 +61,7 @@ func TestTheFirstRuleWithoutACut(t *testing.T) {
 
 func TestCutsOfNoCores(t *testing.T) {
 	good, bad := trailed(set("a"), set("b")), trailed(empty(), set("b"))
-	for what, e := range notCores() {
+	for what, e := range samples.NotCores() {
 		for _, c := range []api.Core{rule(e), trailed(e, set("b")), trailed(set("a"), e), trailed(plus(set("a")), e), trailed(empty(), e)} {
 			wantNoCuts(t, what, []api.Core{c}, argFault())
 			wantNoCuts(t, what+", last", []api.Core{good, c}, argFault())
@@ -81,11 +82,7 @@ func TestTooManyRules(t *testing.T) {
 
 // A Trail of a rule that has none is the zero Expr.
 func TestTrailsThatAreNone(t *testing.T) {
-	for _, trail := range []api.Expr{
-		empty(), set(""), set("a"), star(set("a")), cat(set("a"), set("b")), {Op: -1}, {At: 1}, {At: -1},
-		{Set: api.Set{1}}, {Set: api.Set{0, 1}}, {Set: api.Set{0, 0, 1}}, {Set: api.Set{0, 0, 0, 1 << 63}},
-		{Text: "a"}, {Text: "\x00"}, {Min: 1}, {Min: -1}, {Max: 1}, {Max: -1}, {Args: []api.Expr{{}}},
-	} {
+	for _, trail := range samples.NotNone() {
 		c := api.Core{Head: set("a"), Trail: trail}
 		wantNoCuts(t, c, []api.Core{c}, argFault())
 	}
@@ -119,7 +116,7 @@ func lengthsIn(l lens) []int {
 }
 
 func TestCutsOfSmallRules(t *testing.T) {
-	some := slices.Concat([]api.Expr{empty(), set(""), set("a")}, counted([]api.Expr{empty(), set(""), set("a")}), pairs([]api.Expr{empty(), set(""), set("a"), star(set("a"))}, []api.Expr{empty(), set(""), set("a"), plus(set("a"))}))
+	some := slices.Concat([]api.Expr{empty(), set(""), set("a")}, samples.Counted([]api.Expr{empty(), set(""), set("a")}), samples.Pairs([]api.Expr{empty(), set(""), set("a"), star(set("a"))}, []api.Expr{empty(), set(""), set("a"), plus(set("a"))}))
 	for _, head := range some {
 		wantCuts(t, head, []api.Core{rule(head)}, api.Cut{})
 		for _, trail := range some {
@@ -138,7 +135,7 @@ func wantCutBy(t *testing.T, c api.Core) {
 }
 
 func TestCutsOfRulesByChance(t *testing.T) {
-	c := chance(5)
+	c := chance{5}
 	for range 20000 {
 		r := c.rule(2)
 		if !r.HasTrail {
@@ -151,7 +148,7 @@ func TestCutsOfRulesByChance(t *testing.T) {
 
 // P8.3: of each match the token is one byte or more, and it ends where a word of the head does that has a word of the trail behind it.
 func TestTokensAreNotEmpty(t *testing.T) {
-	c := chance(6)
+	c := chance{6}
 	matches := 0
 	for range 20000 {
 		r := trailed(c.core(2), c.core(2))

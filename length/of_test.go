@@ -8,6 +8,7 @@ import (
 	"bolter/byteset"
 	"bolter/fault"
 	"bolter/length"
+	"bolter/samples"
 )
 
 // P8.1
@@ -48,7 +49,7 @@ func TestLengthsOfOtherCores(t *testing.T) {
 }
 
 func TestLengthsOfNoCore(t *testing.T) {
-	for what, e := range notCores() {
+	for what, e := range samples.NotCores() {
 		got, err := length.Of(e)
 		if got != (api.Lengths{}) || !isFault(err, argFault()) || !errors.Is(err, fault.ErrArg) {
 			t.Errorf("%s: %+v, %+v", what, got, fault.Tell(err))
@@ -79,7 +80,7 @@ func TestLengthsOfSmallCores(t *testing.T) {
 }
 
 func TestLengthsOfCoresByChance(t *testing.T) {
-	c := chance(3)
+	c := chance{3}
 	for range 20000 {
 		e := c.core(3)
 		wantOf(t, e, e, lengthsBy(t, e))

@@ -1,7 +1,6 @@
 package length_test
 
 import (
-	"math"
 	"reflect"
 	"slices"
 	"testing"
@@ -9,6 +8,7 @@ import (
 	"bolter/api"
 	"bolter/fault"
 	"bolter/length"
+	"bolter/samples"
 )
 
 // P8.4
@@ -17,47 +17,16 @@ const many = "rule \"a\"+ / \"bc\" => t\nrule \"ab\" / \"c\"* => u\nrule [a-z]{1
 
 func manyCuts() []api.Cut { return []api.Cut{cutTrail(2), cutHead(2), {}, cutTrail(0)} }
 
-// pieceOf is a list that is a piece of a longer one.
-func pieceOf[T any](l []T, behind T) []T {
-	return append(slices.Clone(l), behind, behind, behind)[:len(l)]
-}
-
-// pieces makes each list of an expression a piece of a longer one, that has in it what may not be.
-func pieces(e api.Expr) api.Expr {
-	e.Args = pieceOf(e.Args, api.Expr{Op: -9})
-	for i, a := range e.Args {
-		e.Args[i] = pieces(a)
-	}
-	return e
-}
-
-// longs tells an expression with what lies behind its lists.
-func longs(e api.Expr) api.Expr {
-	e.Args = slices.Clone(e.Args[:cap(e.Args)])
-	for i, a := range e.Args {
-		e.Args[i] = longs(a)
-	}
-	return e
-}
-
-func changed(l []api.Core, change func(e api.Expr) api.Expr) []api.Core {
-	l = slices.Clone(l)
-	for i, c := range l {
-		l[i].Head, l[i].Trail = change(c.Head), change(c.Trail)
-	}
-	return l
-}
-
 // What lies behind a list's length is neither read nor written; what is handed in stays.
 func TestWhatIsHandedInStays(t *testing.T) {
-	whole := pieceOf(changed(coresOf(t, many), pieces), trailed(empty(), empty()))
-	kept := changed(whole[:cap(whole)], longs)
+	whole := samples.PieceOf(samples.Changed(coresOf(t, many), samples.Pieces), trailed(empty(), empty()))
+	kept := samples.Changed(whole[:cap(whole)], samples.Longs)
 	wantCuts(t, "pieces", whole, manyCuts()...)
 	for i, c := range whole {
 		want := []api.Lengths{from(1, -1), from(2, 2), from(1, 3), from(1, 2)}[i]
 		wantOf(t, c.Head, c.Head, want)
 	}
-	if got := changed(whole[:cap(whole)], longs); !reflect.DeepEqual(got, kept) {
+	if got := samples.Changed(whole[:cap(whole)], samples.Longs); !reflect.DeepEqual(got, kept) {
 		t.Errorf("%+v, want %+v", got, kept)
 	}
 }
@@ -119,29 +88,12 @@ func TestListsInThemselves(t *testing.T) {
 	wantNoCuts(t, "no trail", []api.Core{{Head: set("a"), Trail: e}}, argFault())
 }
 
-// wild makes an expression of any numbers at all.
-func (c *chance) wild(deep int) api.Expr {
-	some := []int{0, 0, 0, 0, 1, 1, -1, -1, 2, math.MaxInt, math.MinInt}
-	e := api.Expr{Op: c.of(10) - 1, Min: some[c.of(len(some))], Max: some[c.of(len(some))]}
-	if c.of(8) == 0 {
-		e.At = some[c.of(len(some))]
-		e.Text = []string{"a", "", "\xff"}[c.of(3)]
-	}
-	if c.of(4) == 0 {
-		e.Set[c.of(4)] = uint64(*c)
-	}
-	for deep > 0 && c.of(3) > 0 {
-		e.Args = append(e.Args, c.wild(deep-1))
-	}
-	return e
-}
-
 // Whatever is handed in, all ends, and the same is told each time.
 func TestAllEnds(t *testing.T) {
-	c := chance(13)
+	c := chance{13}
 	for range 20000 {
-		e, f := c.wild(3), c.core(3)
-		l := []api.Core{{Head: []api.Expr{e, f}[c.of(2)], HasTrail: c.of(2) == 0, Trail: []api.Expr{e, f, {}}[c.of(3)]}, rule(f)}
+		e, f := c.Wild(3), c.core(3)
+		l := []api.Core{{Head: []api.Expr{e, f}[c.Of(2)], HasTrail: c.Of(2) == 0, Trail: []api.Expr{e, f, {}}[c.Of(3)]}, rule(f)}
 		lengths, err := length.Of(e)
 		cuts, fail := length.Cuts(l)
 		if err != nil && lengths != (api.Lengths{}) || fail != nil && len(cuts) > 0 || fail == nil && len(cuts) != len(l) {

@@ -1,11 +1,13 @@
-package length
+// Package cores: whether the cores of rules may be: what each layer asks that is handed some.
+package cores
 
 import (
 	"bolter/api"
 	"bolter/expand"
 )
 
-func coresMayBe(l []api.Core) bool {
+// MayBe asks that there are at most MaxRules, each with a core as its head, and as its trail, if it has one; else its trail is the zero Expr.
+func MayBe(l []api.Core) bool {
 	if len(l) > api.MaxRules {
 		return false
 	}

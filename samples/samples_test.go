@@ -1,0 +1,40 @@
+package samples_test
+
+import (
+	"testing"
+
+	"bolter/api"
+	"bolter/expand"
+	"bolter/samples"
+)
+
+// Tests lean on it that these are cores, and those are not.
+func TestCoresAndOthers(t *testing.T) {
+	for _, e := range samples.Small(samples.Empty(), samples.Set(""), samples.Set("a")) {
+		if !expand.Check(e) {
+			t.Errorf("%+v: no core", e)
+		}
+	}
+	c := samples.Chance(1)
+	for range 1000 {
+		if e := c.Core(4, "", "a"); !expand.Check(e) {
+			t.Errorf("%+v: no core", e)
+		}
+	}
+	for what, e := range samples.NotCores() {
+		if expand.Check(e) {
+			t.Errorf("%s: a core", what)
+		}
+	}
+}
+
+func TestPieces(t *testing.T) {
+	e := samples.Pieces(samples.Cat(samples.Set("a"), samples.Set("b")))
+	if whole := samples.Longs(e); len(e.Args) != 2 || len(whole.Args) < 3 || whole.Args[2].Op != -9 {
+		t.Errorf("%+v, %+v", e, whole)
+	}
+	l := samples.Changed([]api.Core{samples.Rule(samples.Set("a"))}, samples.Star)
+	if l[0].Head.Op != api.OpRepeat || l[0].Trail.Op != api.OpRepeat {
+		t.Errorf("%+v", l)
+	}
+}
