@@ -13,17 +13,12 @@ import (
 	"bolter/fault"
 	"bolter/length"
 	"bolter/samples"
-	"bolter/spec"
 )
 
 // coresOf tells the cores of a rule file.
 func coresOf(t *testing.T, text string) []api.Core {
 	t.Helper()
-	s, err := spec.Parse(text)
-	if err != nil {
-		t.Fatalf("%q: %v", text, err)
-	}
-	l, err := expand.Expand(s)
+	l, err := samples.Cores(text)
 	if err != nil {
 		t.Fatalf("%q: %v", text, err)
 	}

@@ -71,7 +71,7 @@ func TestEndsOfSmallCores(t *testing.T) {
 func TestEndsOfCoresByChance(t *testing.T) {
 	c := chance{1}
 	for range 40000 {
-		e, text := c.core(4), c.text(20)
+		e, text := c.core(4), c.Text(20)
 		wantEnds(t, e, e, text, listOf(endsBy(e, text, 1))...)
 	}
 }

@@ -43,7 +43,7 @@ func TestEndsAreWordsAlone(t *testing.T) {
 	c := chance{6}
 	words := 0
 	for range 3000 {
-		e, text := c.core(4), c.text(8)
+		e, text := c.core(4), c.Text(8)
 		ends := endsOf(t, e, text)
 		for n := range len(text) + 1 {
 			alone := endsOf(t, e, text[:n])
@@ -68,7 +68,7 @@ func TestNextLeadsToWords(t *testing.T) {
 	c := chance{7}
 	led := 0
 	for range 2000 {
-		e, text := c.core(3), c.text(4)
+		e, text := c.core(3), c.Text(4)
 		ways := byteset.List(nextOf(t, e, text))
 		if len(ways) == 0 {
 			continue
@@ -97,7 +97,7 @@ func TestLongestHasALabel(t *testing.T) {
 	matches := 0
 	for range 3000 {
 		l, active := c.rules(3)
-		text := c.text(8)
+		text := c.Text(8)
 		empty := slices.ContainsFunc(active, func(r int) bool { return len(endsOf(t, wordsOf(l[r]), "")) == 1 })
 		if label := labelOf(t, l, active, ""); (label >= 0) != empty {
 			t.Fatalf("%+v, %v: the empty word's label is %d", l, active, label)

@@ -10,21 +10,15 @@ import (
 
 	"bolter/api"
 	"bolter/byteset"
-	"bolter/expand"
 	"bolter/fault"
 	"bolter/match"
 	"bolter/samples"
-	"bolter/spec"
 )
 
 // coresOf tells the cores of a rule file.
 func coresOf(t *testing.T, text string) []api.Core {
 	t.Helper()
-	s, err := spec.Parse(text)
-	if err != nil {
-		t.Fatalf("%q: %v", text, err)
-	}
-	l, err := expand.Expand(s)
+	l, err := samples.Cores(text)
 	if err != nil {
 		t.Fatalf("%q: %v", text, err)
 	}
@@ -301,15 +295,6 @@ func (c *chance) rules(deep int) ([]api.Core, []int) {
 		active = append(active, c.Of(len(l)))
 	}
 	return l, active
-}
-
-// text makes a text of the bytes of the cores, mostly of a and b.
-func (c *chance) text(most int) string {
-	var text []byte
-	for range c.Of(most + 1) {
-		text = append(text, "aaaabbbb\x00\xff"[c.Of(10)])
-	}
-	return string(text)
 }
 
 // texts tells all texts of a and b of so many bytes.

@@ -77,7 +77,7 @@ func TestLabelsOfRulesByChance(t *testing.T) {
 	c := chance{3}
 	for range 30000 {
 		l, active := c.rules(3)
-		text := c.text(6)
+		text := c.Text(6)
 		wantLabel(t, l, l, active, text, labelBy(l, active, text))
 	}
 }

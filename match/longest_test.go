@@ -72,7 +72,7 @@ func TestLongestOfRulesByChance(t *testing.T) {
 	c := chance{4}
 	for range 30000 {
 		l, active := c.rules(3)
-		text := c.text(8)
+		text := c.Text(8)
 		n, label := 0, -1
 		for i := 1; i <= len(text); i++ {
 			if r := labelBy(l, active, text[:i]); r >= 0 {

@@ -61,7 +61,7 @@ func beginsAny(words lang, begin string) bool {
 func TestNextOfCoresByChance(t *testing.T) {
 	c := chance{2}
 	for range 10000 {
-		e, text := c.core(4), c.text(12)
+		e, text := c.core(4), c.Text(12)
 		wantNext(t, e, e, text, nextBy(e, text))
 	}
 }

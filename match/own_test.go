@@ -134,7 +134,7 @@ func TestAllEnds(t *testing.T) {
 		e, f := c.Wild(3), c.core(3)
 		l := []api.Core{{Head: []api.Expr{e, f}[c.Of(2)], HasTrail: c.Of(2) == 0, Trail: []api.Expr{e, f, {}}[c.Of(3)]}, rule(f)}
 		active := []int{[]int{0, 1, 2, -1, math.MaxInt}[c.Of(5)], 1}[:c.Of(3)]
-		text := []byte(c.text(5))
+		text := []byte(c.Text(5))
 		got := answersOf(e, l, active, text)
 		if !got.mayBe() {
 			t.Errorf("%+v, %+v, %v, %q: %+v", e, l, active, text, got)

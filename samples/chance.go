@@ -53,6 +53,15 @@ func (c *Chance) count() (least, most int) {
 	return 0, 1
 }
 
+// Text makes a text of at most so many bytes, mostly of a and b.
+func (c *Chance) Text(most int) string {
+	var text []byte
+	for range c.Of(most + 1) {
+		text = append(text, "aaaabbbb\x00\xff"[c.Of(10)])
+	}
+	return string(text)
+}
+
 // Wild makes an expression of any numbers at all.
 func (c *Chance) Wild(deep int) api.Expr {
 	some := []int{0, 0, 0, 0, 1, 1, -1, -1, 2, math.MaxInt, math.MinInt}

@@ -38,3 +38,15 @@ func TestPieces(t *testing.T) {
 		t.Errorf("%+v", l)
 	}
 }
+
+func TestCoresOfFiles(t *testing.T) {
+	l, err := samples.Cores("rule \"a\" / \"b\" => t\nrule () => u")
+	if err != nil || len(l) != 2 || !l[0].HasTrail || l[1].Head.Op != api.OpEmpty {
+		t.Errorf("%+v, %v", l, err)
+	}
+	for _, text := range []string{"rule", "rule {a} => t"} {
+		if l, err := samples.Cores(text); len(l) > 0 || err == nil {
+			t.Errorf("%q: %+v, %v", text, l, err)
+		}
+	}
+}
