@@ -20,6 +20,7 @@ var (
 	star, plus, maybe    = samples.Star, samples.Plus, samples.Maybe
 	row, nested          = samples.Row, samples.Nested
 	rule, trailed        = samples.Rule, samples.Trailed
+	upTo                 = samples.UpTo
 )
 
 // coresOf tells the cores of a rule file.
@@ -95,15 +96,6 @@ func short(x any) string {
 	return text[:min(len(text), 600)]
 }
 
-// upTo is the numbers from one to another, both too.
-func upTo(from, to int) []int {
-	var l []int
-	for n := from; n <= to; n++ {
-		l = append(l, n)
-	}
-	return l
-}
-
 // takes follows the places of a rule over a text, as P10.4 says.
 func takes(f api.Follow, rule int, text string) bool {
 	now := f.First[rule]
@@ -127,17 +119,8 @@ func (c *chance) core(deep int) api.Expr {
 	return c.Core(deep, "", "a", "b", "ab", "a\x00", "b\xff")
 }
 
-// rules makes some rules, some of which have a trail.
 func (c *chance) rules(deep int) []api.Core {
-	var l []api.Core
-	for range c.Of(4) {
-		r := rule(c.core(deep))
-		if c.Of(3) == 0 {
-			r = trailed(r.Head, c.core(deep))
-		}
-		l = append(l, r)
-	}
-	return l
+	return c.Rules(3, deep, "", "a", "b", "ab", "a\x00", "b\xff")
 }
 
 func small() []api.Expr {

@@ -28,30 +28,6 @@ func TestWhatIsHandedInStays(t *testing.T) {
 	}
 }
 
-// piecesOf makes each list of an automaton a piece of a longer one, that has in it what may not be.
-func piecesOf(f api.Follow) api.Follow {
-	pieces := func(rows [][]int) [][]int {
-		rows = samples.PieceOf(rows, []int{-9})
-		for i, row := range rows {
-			rows[i] = samples.PieceOf(row, -9)
-		}
-		return rows
-	}
-	return api.Follow{Sets: samples.PieceOf(f.Sets, api.Set{1}), Rules: samples.PieceOf(f.Rules, -9), First: pieces(f.First), Next: pieces(f.Next)}
-}
-
-// longsOf tells an automaton with what lies behind its lists.
-func longsOf(f api.Follow) api.Follow {
-	longs := func(rows [][]int) [][]int {
-		rows = slices.Clone(rows[:cap(rows)])
-		for i, row := range rows {
-			rows[i] = slices.Clone(row[:cap(row)])
-		}
-		return rows
-	}
-	return api.Follow{Sets: slices.Clone(f.Sets[:cap(f.Sets)]), Rules: slices.Clone(f.Rules[:cap(f.Rules)]), First: longs(f.First), Next: longs(f.Next)}
-}
-
 func TestWhatIsCheckedStays(t *testing.T) {
 	for _, c := range []struct {
 		f    api.Follow
@@ -60,10 +36,10 @@ func TestWhatIsCheckedStays(t *testing.T) {
 		{built(t, some, coresOf(t, some)), true}, {three(), true}, {great(1000, 200), true}, {great(1001, 1), false},
 		{changed(three(), func(f *api.Follow) { f.Next[0] = []int{1, 0} }), false}, {changed(three(), func(f *api.Follow) { f.Rules[3] = 3 }), false},
 	} {
-		whole := piecesOf(c.f)
-		kept := longsOf(whole)
-		if got := follow.Check(whole); got != c.want || !reflect.DeepEqual(longsOf(whole), kept) {
-			t.Errorf("%s may be: %v, %s", short(kept), got, short(longsOf(whole)))
+		whole := samples.FollowPieces(c.f)
+		kept := samples.FollowLongs(whole)
+		if got := follow.Check(whole); got != c.want || !reflect.DeepEqual(samples.FollowLongs(whole), kept) {
+			t.Errorf("%s may be: %v, %s", short(kept), got, short(samples.FollowLongs(whole)))
 		}
 	}
 }

@@ -1,6 +1,9 @@
 package follow
 
-import "bolter/api"
+import (
+	"bolter/api"
+	"bolter/places"
+)
 
 // gather is where a row's places come together: the list is written over by the next row.
 type gather struct {
@@ -14,9 +17,9 @@ func (g *gather) add(place int) {
 }
 
 // row begins with the positions, rising; end stands behind them, if it is among the places.
-func (g *gather) row(to places, ends bool, end int) []int {
+func (g *gather) row(to places.Set, ends bool, end int) []int {
 	g.n = 0
-	for p := range to.all {
+	for p := range to.All {
 		g.add(p)
 	}
 	if ends {
@@ -36,7 +39,7 @@ func (w *walk) follow() api.Follow {
 	}
 	for p, to := range w.next {
 		rule := w.owner[p]
-		f.Next = append(f.Next, g.row(to, w.rules[rule].last.has(p), len(w.sets)+rule))
+		f.Next = append(f.Next, g.row(to, w.rules[rule].last.Has(p), len(w.sets)+rule))
 	}
 	return f
 }

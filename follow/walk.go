@@ -3,9 +3,10 @@ package follow
 import (
 	"bolter/api"
 	"bolter/expand"
+	"bolter/places"
 )
 
-// tooMany is asked ahead of the walk: places has no room for more.
+// tooMany is asked ahead of the walk: a set of places has no room for more.
 func tooMany(l []api.Core) bool {
 	count := 0
 	for _, c := range l {
@@ -25,23 +26,23 @@ func ruleExpr(c api.Core) api.Expr {
 // part is what is known of an expression, or of its arguments that are walked.
 type part struct {
 	nullable    bool
-	first, last places
+	first, last places.Set
 }
 
 // then is p with q behind it.
 func (p part) then(q part) part {
 	if p.nullable {
-		p.first = p.first.with(q.first)
+		p.first = p.first.With(q.first)
 	}
 	if q.nullable {
-		q.last = q.last.with(p.last)
+		q.last = q.last.With(p.last)
 	}
 	return part{p.nullable && q.nullable, p.first, q.last}
 }
 
 // or is p with q beside it.
 func (p part) or(q part) part {
-	return part{p.nullable || q.nullable, p.first.with(q.first), p.last.with(q.last)}
+	return part{p.nullable || q.nullable, p.first.With(q.first), p.last.With(q.last)}
 }
 
 // open is an expression that is being walked: done of its arguments are, and come to part.
@@ -55,7 +56,7 @@ type open struct {
 type walk struct {
 	sets  []api.Set
 	owner []int // of each position its rule
-	next  []places
+	next  []places.Set
 	rules []part
 }
 
@@ -92,9 +93,9 @@ func (w *walk) begin(e api.Expr) open {
 	case api.OpEmpty, api.OpCat:
 		o.part.nullable = true
 	case api.OpSet:
-		p := place(len(w.sets))
+		p := places.Of(len(w.sets))
 		o.part.first, o.part.last = p, p
-		w.sets, w.next = append(w.sets, e.Set), append(w.next, places{})
+		w.sets, w.next = append(w.sets, e.Set), append(w.next, places.Set{})
 	}
 	return o
 }
@@ -119,8 +120,8 @@ func (w *walk) end(o open) part {
 }
 
 // link lets each of to stand behind each of from.
-func (w *walk) link(from, to places) {
-	for p := range from.all {
-		w.next[p] = w.next[p].with(to)
+func (w *walk) link(from, to places.Set) {
+	for p := range from.All {
+		w.next[p] = w.next[p].With(to)
 	}
 }

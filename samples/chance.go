@@ -53,6 +53,19 @@ func (c *Chance) count() (least, most int) {
 	return 0, 1
 }
 
+// Rules makes at most so many rules, some of which have a trail.
+func (c *Chance) Rules(most, deep int, sets ...string) []api.Core {
+	var l []api.Core
+	for range c.Of(most + 1) {
+		r := Rule(c.Core(deep, sets...))
+		if c.Of(3) == 0 {
+			r = Trailed(r.Head, c.Core(deep, sets...))
+		}
+		l = append(l, r)
+	}
+	return l
+}
+
 // Text makes a text of at most so many bytes, mostly of a and b.
 func (c *Chance) Text(most int) string {
 	var text []byte

@@ -1,6 +1,7 @@
 package samples_test
 
 import (
+	"reflect"
 	"testing"
 
 	"bolter/api"
@@ -48,5 +49,24 @@ func TestCoresOfFiles(t *testing.T) {
 		if l, err := samples.Cores(text); len(l) > 0 || err == nil {
 			t.Errorf("%q: %+v, %v", text, l, err)
 		}
+	}
+}
+
+func TestPiecesOfAutomata(t *testing.T) {
+	f, err := samples.Follow(`rule "ab" => t`)
+	if err != nil || len(f.Next) != 2 {
+		t.Fatalf("%+v, %v", f, err)
+	}
+	pieces := samples.FollowPieces(f)
+	if longs := samples.FollowLongs(pieces); !reflect.DeepEqual(pieces, f) || len(longs.Sets) < 3 || longs.Rules[2] != -9 || longs.First[0][1] != -9 || longs.Next[2][0] != -9 {
+		t.Errorf("%+v, %+v", pieces, longs)
+	}
+	d := api.Dense{Next: [][]int{make([]int, 256)}, Label: []int{-1}}
+	piece := samples.DensePieces(d)
+	if longs := samples.DenseLongs(piece); !reflect.DeepEqual(piece, d) || longs.Label[1] != -9 || longs.Next[0][256] != -9 || longs.Next[1][0] != -9 {
+		t.Errorf("%+v, %+v", piece, longs)
+	}
+	if _, err := samples.Follow("rule"); err == nil {
+		t.Error("no rule file")
 	}
 }
