@@ -2,11 +2,13 @@ package samples_test
 
 import (
 	"reflect"
+	"slices"
 	"testing"
 
 	"bolter/api"
 	"bolter/expand"
 	"bolter/samples"
+	"bolter/subset"
 )
 
 // Tests lean on it that these are cores, and those are not.
@@ -68,5 +70,45 @@ func TestPiecesOfAutomata(t *testing.T) {
 	}
 	if _, err := samples.Follow("rule"); err == nil {
 		t.Error("no rule file")
+	}
+}
+
+func TestDenseAndOthers(t *testing.T) {
+	for what, d := range samples.NotDense() {
+		if subset.Check(d) {
+			t.Errorf("%s may be", what)
+		}
+	}
+	c := samples.Chance(1)
+	for range 100 {
+		d := c.Dense(1+c.Of(9), 3)
+		blown, like := c.Blown(d, len(d.Next)+c.Of(9))
+		if !subset.Check(d) || !subset.Check(blown) || len(like) != len(blown.Next) || like[0] != 0 {
+			t.Fatalf("%s, %s, %v", samples.DenseText(d), samples.DenseText(blown), like)
+		}
+		for s, row := range blown.Next {
+			for b, to := range row {
+				if like[to] != d.Next[like[s]][b] || blown.Label[s] != d.Label[like[s]] {
+					t.Fatalf("%s, %s, %v: state %d", samples.DenseText(d), samples.DenseText(blown), like, s)
+				}
+			}
+		}
+	}
+}
+
+func TestTextsOfAutomata(t *testing.T) {
+	if got := samples.DenseText(samples.Two()); got != "-1: 00>0 a>1 b>0; 7: 00>1 a>0 b>1" {
+		t.Error(got)
+	}
+	l, err := samples.Cores(`rule [\x00-\xf0]|"~a" => t`)
+	d, bad := samples.Dense(l, 0)
+	if got := samples.DenseText(d); err != nil || bad != nil || got != "-1: 00>1 7e>2 7f>1 f1>3; 0: 00>3; 0: 00>3 a>1 b>3; -1: 00>3" {
+		t.Errorf("%s, %v, %v", got, err, bad)
+	}
+	if found := samples.FoundFrom0(d); !slices.Equal(found, samples.UpTo(0, 3)) {
+		t.Errorf("%v", found)
+	}
+	if _, err := samples.Dense(l, 1); err == nil {
+		t.Error("no rule of its")
 	}
 }

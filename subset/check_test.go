@@ -2,32 +2,14 @@ package subset_test
 
 import (
 	"bytes"
-	"math"
-	"slices"
 	"testing"
 
 	"bolter/api"
+	"bolter/samples"
 	"bolter/subset"
 )
 
 // P11.3
-
-// two is an automaton of two states: by a to the other one, by all others to itself.
-func two() api.Dense {
-	d := api.Dense{Next: [][]int{make([]int, 256), slices.Repeat([]int{1}, 256)}, Label: []int{-1, 7}}
-	d.Next[0]['a'], d.Next[1]['a'] = 1, 0
-	return d
-}
-
-// states is an automaton of so many, each of which leads to the one behind it, the last to itself.
-func states(n int) api.Dense {
-	var d api.Dense
-	for s := range n {
-		d.Next = append(d.Next, slices.Repeat([]int{min(s+1, n-1)}, 256))
-		d.Label = append(d.Label, s%201-1)
-	}
-	return d
-}
 
 func TestDenseThatMayBe(t *testing.T) {
 	for what, change := range map[string]func(d *api.Dense){
@@ -50,25 +32,7 @@ func TestDenseThatMayBe(t *testing.T) {
 }
 
 func TestDenseThatMayNotBe(t *testing.T) {
-	for what, change := range map[string]func(d *api.Dense){
-		"nothing":    func(d *api.Dense) { *d = api.Dense{} },
-		"no states":  func(d *api.Dense) { *d = api.Dense{Next: [][]int{}, Label: []int{}} },
-		"601 states": func(d *api.Dense) { *d = states(601) },
-		"many":       func(d *api.Dense) { *d = api.Dense{Next: make([][]int, 1<<20), Label: make([]int, 1<<20)} },
-		// lists that are too long, or too short
-		"a row less": func(d *api.Dense) { d.Next = d.Next[:1] }, "a row more": func(d *api.Dense) { d.Next = append(d.Next, d.Next[0]) }, "no rows": func(d *api.Dense) { d.Next = nil },
-		"a label less": func(d *api.Dense) { d.Label = d.Label[:1] }, "a label more": func(d *api.Dense) { d.Label = append(d.Label, 0) }, "no labels": func(d *api.Dense) { d.Label = nil },
-		"255 bytes": func(d *api.Dense) { d.Next[0] = d.Next[0][:255] }, "257 bytes": func(d *api.Dense) { d.Next[1] = append(d.Next[1], 0) }, "no bytes": func(d *api.Dense) { d.Next[1] = nil }, "none at first": func(d *api.Dense) { d.Next[0] = nil },
-		"very many bytes": func(d *api.Dense) { d.Next[1] = make([]int, 1<<20) },
-		// numbers of no states
-		"state 2": func(d *api.Dense) { d.Next[0][0] = 2 }, "state 2, last": func(d *api.Dense) { d.Next[1][255] = 2 }, "state -1": func(d *api.Dense) { d.Next[0][255] = -1 }, "state -1, last": func(d *api.Dense) { d.Next[1][0] = -1 },
-		"the greatest state": func(d *api.Dense) { d.Next[1]['a'] = math.MaxInt }, "the least state": func(d *api.Dense) { d.Next[1]['a'] = math.MinInt },
-		// labels of no rules
-		"label -2": func(d *api.Dense) { d.Label[0] = -2 }, "label -2, last": func(d *api.Dense) { d.Label[1] = -2 }, "label 200": func(d *api.Dense) { d.Label[0] = 200 }, "label 200, last": func(d *api.Dense) { d.Label[1] = 200 },
-		"the greatest label": func(d *api.Dense) { d.Label[1] = math.MaxInt }, "the least label": func(d *api.Dense) { d.Label[1] = math.MinInt },
-	} {
-		d := two()
-		change(&d)
+	for what, d := range samples.NotDense() {
 		if subset.Check(d) {
 			t.Errorf("%s may be", what)
 		}

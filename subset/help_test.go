@@ -5,7 +5,6 @@ import (
 	"fmt"
 	"reflect"
 	"slices"
-	"strings"
 	"testing"
 
 	"bolter/api"
@@ -21,6 +20,9 @@ var (
 	empty, set, alt   = samples.Empty, samples.Set, samples.Alt
 	plus, maybe, rule = samples.Plus, samples.Maybe, samples.Rule
 	upTo              = samples.UpTo
+	two, states       = samples.Two, samples.States
+	shown, listsOf    = samples.DenseText, samples.DenseLists
+	foundFrom0        = samples.FoundFrom0
 )
 
 // followOf tells the automaton of positions of a rule file.
@@ -98,29 +100,6 @@ func wantModes(t *testing.T, what any, f api.Follow, active [][]int, states ...i
 		}
 		wantDense(t, what, f, active[i], d)
 	}
-}
-
-// shown is an automaton as a text: of each state its label, and of each row of bytes that lead to one state the first byte and that state.
-func shown(d api.Dense) string {
-	var l []string
-	for s, row := range d.Next {
-		text := fmt.Sprint(d.Label[s], ":")
-		for b, to := range row {
-			if b == 0 || to != row[b-1] {
-				text += fmt.Sprintf(" %s>%d", name(byte(b)), to)
-			}
-		}
-		l = append(l, text)
-	}
-	return strings.Join(l, "; ")
-}
-
-// name is a byte itself, if it is a letter, or two digits for it.
-func name(b byte) string {
-	if 'a' <= b && b <= 'z' {
-		return string(rune(b))
-	}
-	return fmt.Sprintf("%02x", b)
 }
 
 // short is the beginning of what may be long.

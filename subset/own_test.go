@@ -63,18 +63,6 @@ func TestWhatIsCheckedStays(t *testing.T) {
 	}
 }
 
-// listsOf is all rows of automata, each up to its capacity.
-func listsOf(l []api.Dense) [][]int {
-	var lists [][]int
-	for _, d := range l[:cap(l)] {
-		lists = append(lists, d.Label[:cap(d.Label)])
-		for _, row := range d.Next[:cap(d.Next)] {
-			lists = append(lists, row[:cap(row)])
-		}
-	}
-	return lists
-}
-
 // No two lists of an answer share memory, be it behind their lengths.
 func TestListsShareNothing(t *testing.T) {
 	for _, c := range []struct {
@@ -216,17 +204,10 @@ func TestAnyNumbersAreChecked(t *testing.T) {
 	c := chance{7}
 	may := 0
 	for range 5000 {
-		var d api.Dense
-		for range 1 + c.Of(3) {
-			d.Next = append(d.Next, slices.Repeat([]int{c.Of(3)}, []int{256, 256, 256, 256, 255, 257}[c.Of(6)]))
-			d.Label = append(d.Label, []int{-1, 0, 5, 199, -2, 200}[c.Of(6)])
-		}
-		if c.Of(4) == 0 {
-			d.Label = c.numbers(3)
-		}
+		d := c.WildDense()
 		want := len(d.Label) == len(d.Next) && !slices.ContainsFunc(d.Label, func(r int) bool { return r < -1 || r > 199 })
 		for _, row := range d.Next {
-			want = want && len(row) == 256 && row[0] < len(d.Next)
+			want = want && len(row) == 256 && slices.Min(row) >= 0 && slices.Max(row) < len(d.Next)
 		}
 		if got := subset.Check(d); got != want {
 			t.Errorf("%d states, %v may be: %v", len(d.Next), d.Label, got)

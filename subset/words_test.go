@@ -74,19 +74,6 @@ func TestLabelsByChance(t *testing.T) {
 	}
 }
 
-// foundFrom0 is the states in the order in which they are found.
-func foundFrom0(d api.Dense) []int {
-	found := []int{0}
-	for i := 0; i < len(found); i++ {
-		for _, s := range d.Next[found[i]] {
-			if !slices.Contains(found, s) {
-				found = append(found, s)
-			}
-		}
-	}
-	return found
-}
-
 // All states can be reached; they are numbered so.
 func TestStatesAsTheyAreFound(t *testing.T) {
 	c := chance{5}
