@@ -63,25 +63,6 @@ func TestEachLabelTellsApart(t *testing.T) {
 	wantClasses(t, "200 labels", d, append(upTo(0, 199), 0))
 }
 
-// allOf goes through all automata of so many states, with two bytes that may lead apart, and labels from -1 on.
-func allOf(states, labels int, visit func(d api.Dense)) {
-	l, to := make([]int, states), make([][2]int, states)
-	var fill func(i int)
-	fill = func(i int) {
-		if i == states {
-			visit(byTwo(l, to...))
-			return
-		}
-		for label := range labels {
-			for x := range states * states {
-				l[i], to[i] = label-1, [2]int{x / states, x % states}
-				fill(i + 1)
-			}
-		}
-	}
-	fill(0)
-}
-
 // labelsBehind is the labels behind all texts of a and b of so many bytes or fewer, from a state on.
 func labelsBehind(d api.Dense, state, deep int) string {
 	text := string(rune('A' + d.Label[state]))
@@ -95,7 +76,7 @@ func labelsBehind(d api.Dense, state, deep int) string {
 func TestSmallAutomata(t *testing.T) {
 	count := 0
 	for states := 1; states <= 3; states++ {
-		allOf(states, 2, func(d api.Dense) {
+		samples.AllDense(states, 2, func(d api.Dense) {
 			count++
 			var texts []string
 			want, found := []int{}, 0
@@ -149,16 +130,6 @@ func TestClassesOfThoseThatAreAlike(t *testing.T) {
 			}
 		}
 	}
-}
-
-// ringOf is an automaton of so many states, each of which leads by all bytes to the one behind it, the last to the first.
-func ringOf(states int, label func(s int) int) api.Dense {
-	var d api.Dense
-	for s := range states {
-		d.Next = append(d.Next, slices.Repeat([]int{(s + 1) % states}, 256))
-		d.Label = append(d.Label, label(s))
-	}
-	return d
 }
 
 func remainders(n, by int) []int {

@@ -20,6 +20,7 @@ var (
 	star, plus, maybe    = samples.Star, samples.Plus, samples.Maybe
 	rule, upTo           = samples.Rule, samples.UpTo
 	shown, foundFrom0    = samples.DenseText, samples.FoundFrom0
+	byTwo, ringOf        = samples.ByTwo, samples.Ring
 )
 
 // chance makes what tests are tried on of a row of numbers.
@@ -58,17 +59,6 @@ func denseBy(t *testing.T, l []api.Core, active ...int) api.Dense {
 	d, err := samples.Dense(l, active...)
 	if err != nil {
 		t.Fatalf("%s: %v", short(l), err)
-	}
-	return d
-}
-
-// byTwo is an automaton whose states lead by all bytes but a to one state, by a to another.
-func byTwo(labels []int, to ...[2]int) api.Dense {
-	d := api.Dense{Label: labels}
-	for _, x := range to {
-		row := slices.Repeat([]int{x[0]}, 256)
-		row['a'] = x[1]
-		d.Next = append(d.Next, row)
 	}
 	return d
 }

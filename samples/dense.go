@@ -37,6 +37,46 @@ func States(n int) api.Dense {
 	return d
 }
 
+// Ring is an automaton of so many, each of which leads by all bytes to the one behind it, the last to the first.
+func Ring(states int, label func(s int) int) api.Dense {
+	var d api.Dense
+	for s := range states {
+		d.Next = append(d.Next, slices.Repeat([]int{(s + 1) % states}, 256))
+		d.Label = append(d.Label, label(s))
+	}
+	return d
+}
+
+// ByTwo is an automaton whose states lead by all bytes but a to one state, by a to another.
+func ByTwo(labels []int, to ...[2]int) api.Dense {
+	d := api.Dense{Label: labels}
+	for _, x := range to {
+		row := slices.Repeat([]int{x[0]}, 256)
+		row['a'] = x[1]
+		d.Next = append(d.Next, row)
+	}
+	return d
+}
+
+// AllDense goes through all automata of so many states, with two bytes that may lead apart, and so many labels from -1 on.
+func AllDense(states, labels int, visit func(d api.Dense)) {
+	l, to := make([]int, states), make([][2]int, states)
+	var fill func(i int)
+	fill = func(i int) {
+		if i == states {
+			visit(ByTwo(slices.Clone(l), to...))
+			return
+		}
+		for label := range labels {
+			for x := range states * states {
+				l[i], to[i] = label-1, [2]int{x / states, x % states}
+				fill(i + 1)
+			}
+		}
+	}
+	fill(0)
+}
+
 // DenseText is an automaton as a text: of each state its label, and of each row of bytes that lead to one state the first byte and that state.
 func DenseText(d api.Dense) string {
 	var l []string

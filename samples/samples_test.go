@@ -96,8 +96,27 @@ func TestDenseAndOthers(t *testing.T) {
 	}
 }
 
+func TestAllSmallAutomata(t *testing.T) {
+	seen := map[string]int{}
+	samples.AllDense(2, 3, func(d api.Dense) {
+		if !subset.Check(d) {
+			t.Errorf("%s may not be", samples.DenseText(d))
+		}
+		seen[samples.DenseText(d)]++
+	})
+	if len(seen) != 9*16 {
+		t.Errorf("%d automata", len(seen))
+	}
+}
+
 func TestTextsOfAutomata(t *testing.T) {
 	if got := samples.DenseText(samples.Two()); got != "-1: 00>0 a>1 b>0; 7: 00>1 a>0 b>1" {
+		t.Error(got)
+	}
+	if got := samples.DenseText(samples.Ring(3, func(s int) int { return s * s })); got != "0: 00>1; 1: 00>2; 4: 00>0" {
+		t.Error(got)
+	}
+	if got := samples.DenseText(samples.ByTwo([]int{5, -1}, [2]int{1, 0}, [2]int{1, 1})); got != "5: 00>1 a>0 b>1; -1: 00>1" {
 		t.Error(got)
 	}
 	l, err := samples.Cores(`rule [\x00-\xf0]|"~a" => t`)
