@@ -126,6 +126,29 @@ func FoundFrom0(d api.Dense) []int {
 	return found
 }
 
+// LabelBehind is the label behind a word, from a state on.
+func LabelBehind(d api.Dense, state int, w string) int {
+	for i := range len(w) {
+		state = d.Next[state][w[i]]
+	}
+	return d.Label[state]
+}
+
+// InOrder tells all words of these bytes (that rise) of at most so many, in their order.
+func InOrder(bytes string, most int) []string {
+	words, last := []string{""}, []string{""}
+	for range most {
+		var next []string
+		for _, w := range last {
+			for i := range len(bytes) {
+				next = append(next, w+bytes[i:i+1])
+			}
+		}
+		words, last = append(words, next...), next
+	}
+	return words
+}
+
 // NotDense tells automata that may not be, from unlike causes.
 func NotDense() map[string]api.Dense {
 	l := map[string]api.Dense{

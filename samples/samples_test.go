@@ -131,3 +131,12 @@ func TestTextsOfAutomata(t *testing.T) {
 		t.Error("no rule of its")
 	}
 }
+
+func TestWordsInOrder(t *testing.T) {
+	if l := samples.InOrder("ab", 2); !slices.Equal(l, []string{"", "a", "b", "aa", "ab", "ba", "bb"}) {
+		t.Errorf("%q", l)
+	}
+	if d := samples.Two(); samples.LabelBehind(d, 0, "ba") != 7 || samples.LabelBehind(d, 1, "a") != -1 || samples.LabelBehind(d, 1, "") != 7 {
+		t.Error("labels behind words")
+	}
+}

@@ -21,6 +21,8 @@ import (
 var (
 	byTwo, ringOf = samples.ByTwo, samples.Ring
 	upTo, shown   = samples.UpTo, samples.DenseText
+	inOrder       = samples.InOrder
+	labelBehind   = samples.LabelBehind
 )
 
 // chance makes what tests are tried on of a row of numbers.
@@ -230,29 +232,6 @@ func wantNoNever(t *testing.T, what any, l []api.Dense, rules int) {
 
 func isArg(err error) bool {
 	return reflect.DeepEqual(fault.Tell(err), api.Fault{Code: api.CodeArg}) && errors.Is(err, fault.ErrArg)
-}
-
-// labelBehind is the label behind a word, from a state on.
-func labelBehind(d api.Dense, state int, w string) int {
-	for i := range len(w) {
-		state = d.Next[state][w[i]]
-	}
-	return d.Label[state]
-}
-
-// inOrder tells all words of these bytes (that rise) of at most so many, in their order.
-func inOrder(bytes string, most int) []string {
-	words, last := []string{""}, []string{""}
-	for range most {
-		var next []string
-		for _, w := range last {
-			for i := range len(bytes) {
-				next = append(next, w+bytes[i:i+1])
-			}
-		}
-		words, last = append(words, next...), next
-	}
-	return words
 }
 
 // firstOf is the first of words for which this is so.
