@@ -7,6 +7,7 @@ import (
 
 	"bolter/api"
 	"bolter/expand"
+	"bolter/rows"
 	"bolter/samples"
 	"bolter/subset"
 )
@@ -138,5 +139,24 @@ func TestWordsInOrder(t *testing.T) {
 	}
 	if d := samples.Two(); samples.LabelBehind(d, 0, "ba") != 7 || samples.LabelBehind(d, 1, "a") != -1 || samples.LabelBehind(d, 1, "") != 7 {
 		t.Error("labels behind words")
+	}
+}
+
+func TestTablesAndOthers(t *testing.T) {
+	r := samples.Table()
+	if got := samples.RowsText(r); !rows.Check(r) || got != "starts 0 2; classes 00>0 a>1 b>0 c>2 d>0 ff>1; -1: -1 1 2; 0: 2 0 -1; 7: 1 -1 0" {
+		t.Error(got)
+	}
+	for what, r := range samples.NotRows() {
+		if rows.Check(r) {
+			t.Errorf("%s may be", what)
+		}
+	}
+	piece := samples.RowsPieces(r)
+	if longs := samples.RowsLongs(piece); !reflect.DeepEqual(piece, r) || longs.Classes[256] != -9 || longs.Starts[2] != -9 || longs.Next[0][3] != -9 || longs.Next[3][0] != -9 || longs.Label[3] != -9 {
+		t.Errorf("%+v, %+v", piece, longs)
+	}
+	if lists := samples.RowsLists(samples.Table()); len(lists) != 6 || len(lists[0]) != 256 || len(lists[1]) != 2 || len(lists[2]) != 3 || len(lists[5]) != 3 {
+		t.Errorf("%v", lists)
 	}
 }
