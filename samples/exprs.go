@@ -1,4 +1,4 @@
-// Package samples: expressions, cores, automata and tables that tests are tried on; the program itself has no use for it.
+// Package samples: expressions, cores, automata, tables and combs that tests are tried on; the program itself has no use for it.
 package samples
 
 import (

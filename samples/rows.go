@@ -16,6 +16,33 @@ func Table() api.Rows {
 	return r
 }
 
+// TableOf is one of these rows: its start is state 0, each byte has a class of its own, the bytes behind them all the last one.
+func TableOf(next ...[]int) api.Rows {
+	r := api.Rows{Count: len(next[0]), Starts: []int{0}, Next: next, Label: make([]int, len(next))}
+	for b := range 256 {
+		r.Classes = append(r.Classes, min(b, r.Count-1))
+	}
+	return r
+}
+
+// AllRows goes through all tables of so many states and classes.
+func AllRows(states, classes int, visit func(r api.Rows)) {
+	var entries []int
+	var fill func()
+	fill = func() {
+		if len(entries) == states*classes {
+			visit(TableOf(slices.Collect(slices.Chunk(slices.Clone(entries), classes))...))
+			return
+		}
+		for to := range states + 1 {
+			entries = append(entries, to-1)
+			fill()
+			entries = entries[:len(entries)-1]
+		}
+	}
+	fill()
+}
+
 // RowsText is a table as a text: of each mode its start; of each row of bytes that have one class the first byte and that class; of each state its label and its row.
 func RowsText(r api.Rows) string {
 	l := []string{"starts" + numbersText(r.Starts), "classes"}

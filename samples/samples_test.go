@@ -6,6 +6,7 @@ import (
 	"testing"
 
 	"bolter/api"
+	"bolter/comb"
 	"bolter/expand"
 	"bolter/rows"
 	"bolter/samples"
@@ -158,5 +159,43 @@ func TestTablesAndOthers(t *testing.T) {
 	}
 	if lists := samples.RowsLists(samples.Table()); len(lists) != 6 || len(lists[0]) != 256 || len(lists[1]) != 2 || len(lists[2]) != 3 || len(lists[5]) != 3 {
 		t.Errorf("%v", lists)
+	}
+}
+
+func TestCombsAndOthers(t *testing.T) {
+	c := samples.Comb()
+	if got := samples.CombText(c); !comb.Check(c, 3) || got != "0/-1 1/0 0/1 2/0; 0:1 - 0:0 1:-1 3:3" {
+		t.Error(got)
+	}
+	for what, c := range samples.NotCombs() {
+		if comb.Check(c, 3) || comb.Check(c, 256) {
+			t.Errorf("%s may be", what)
+		}
+	}
+	if !comb.Check(samples.Chain(600), 1) || !comb.Check(samples.FreeSlots(1<<18, 1<<18-1), 1) || !comb.Check(samples.FreeSlots(1, 0), 1) {
+		t.Error("a chain, and one slot behind free ones, may not be")
+	}
+	piece := samples.CombPieces(c)
+	if longs := samples.CombLongs(piece); !reflect.DeepEqual(piece, c) || longs.Base[4] != -9 || longs.Default[4] != -9 || longs.Next[5] != -9 || longs.Check[5] != -9 {
+		t.Errorf("%+v, %+v", piece, longs)
+	}
+	if lists := samples.CombLists(samples.Comb()); len(lists) != 4 || len(lists[0]) != 4 || len(lists[1]) != 4 || len(lists[2]) != 5 || len(lists[3]) != 5 {
+		t.Errorf("%v", lists)
+	}
+}
+
+func TestTablesOfRows(t *testing.T) {
+	if got := samples.RowsText(samples.TableOf([]int{-1, 1, 0}, []int{0, 0, 0})); got != "starts 0; classes 00>0 01>1 02>2; 0: -1 1 0; 0: 0 0 0" {
+		t.Error(got)
+	}
+	seen := map[string]int{}
+	samples.AllRows(2, 2, func(r api.Rows) {
+		if !rows.Check(r) {
+			t.Errorf("%s may not be", samples.RowsText(r))
+		}
+		seen[samples.RowsText(r)]++
+	})
+	if len(seen) != 81 {
+		t.Errorf("%d tables", len(seen))
 	}
 }
